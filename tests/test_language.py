@@ -1,0 +1,164 @@
+"""The package keeps to the small subset of the language, and to point [1]: no clock, chance, files or network."""
+
+import ast
+import inspect
+import os
+import re
+import symtable
+import unittest
+
+import evenodds
+from evenodds import edits, errors, orders, relations
+
+FOLDER = os.path.dirname(evenodds.__file__)
+MODULES = {"errors": errors, "orders": orders, "relations": relations, "edits": edits}
+
+LIBRARY = {
+    "heapq": {"heappush", "heappop", "heapify", "heapreplace", "heappushpop"},
+    "math": {"gcd", "lcm", "isqrt", "comb", "perm", "factorial"},
+    "itertools": {"product", "combinations", "permutations", "chain", "accumulate", "pairwise", "islice",
+                  "zip_longest"},
+    "collections": {"defaultdict", "deque"},
+}
+
+BUILTINS = set("""
+    len range enumerate zip min max sum abs sorted reversed int str bool list tuple dict set isinstance ord repr any
+    all divmod pow iter next map Exception ValueError TypeError KeyError IndexError LookupError ZeroDivisionError
+    NotImplemented property super
+""".split())
+
+INTERFACE = {
+    "orders": {"is_name": "(text)", "Order": "(names, covers=())"},
+    "relations": {
+        "relations": "(order)", "order_from_relations": "(names, pairs)", "is_alike": "(order, other)",
+        "renamed": "(order, names)", "is_matching": "(order, other, pairs)",
+    },
+    "edits": {
+        "apply_edit": "(order, edit)", "inverse_edit": "(order, edit)", "apply_edits": "(order, edits)",
+    },
+}
+
+METHODS = {
+    "rank": "(self, name)", "place": "(self, name)", "at_rank": "(self, rank)", "is_below": "(self, low, high)",
+    "is_at_most": "(self, low, high)", "lowers": "(self, name)", "uppers": "(self, name)",
+}
+
+
+def sources():
+    """The text of each file of the package by its name."""
+    found = {}
+    for name in sorted(os.listdir(FOLDER)):
+        if name != "__pycache__":
+            with open(os.path.join(FOLDER, name), encoding="utf-8", newline="") as source:
+                found[name] = source.read()
+    return found
+
+
+def nodes():
+    for name, text in sources().items():
+        for node in ast.walk(ast.parse(text)):
+            yield f"{name}:{getattr(node, 'lineno', 0)}", node
+
+
+def free_names(table):
+    """The names that a file reads but binds nowhere: those of builtins."""
+    found = {symbol.get_name() for symbol in table.get_symbols() if symbol.is_global() and symbol.is_referenced()}
+    for inner in table.get_children():
+        found |= free_names(inner)
+    return found
+
+
+class Files(unittest.TestCase):
+    def test_files_and_sizes(self):
+        for name, text in sources().items():
+            self.assertRegex(name, r"^[a-z_]+\.py$")
+            self.assertLessEqual(len(text.split("\n")), 399, name)
+            self.assertTrue(text.endswith("\n") and not text.endswith("\n\n"), name)
+            for line in text.split("\n"):
+                self.assertLessEqual(len(line), 120, name)
+                self.assertRegex(line, r"^[ -~]*$", name)
+                self.assertEqual(line, line.rstrip(), name)
+
+    def test_functions_are_small(self):
+        for where, node in nodes():
+            if isinstance(node, ast.FunctionDef):
+                self.assertLessEqual(node.end_lineno - node.lineno + 1, 40, where)
+
+
+class Names(unittest.TestCase):
+    def test_imports_name_the_file_that_defines_the_name(self):
+        for where, node in nodes():
+            self.assertNotIsInstance(node, ast.Import, where)
+            if isinstance(node, ast.ImportFrom):
+                names = {alias.name for alias in node.names}
+                self.assertEqual((node.level, {alias.asname for alias in node.names}), (0, {None}), where)
+                if node.module in LIBRARY:
+                    self.assertLessEqual(names, LIBRARY[node.module], where)
+                else:
+                    package, _, module = node.module.partition(".")
+                    self.assertEqual(package, "evenodds", where)
+                    self.assertLessEqual(names, self.defined(module), where)
+
+    def defined(self, module):
+        found = set()
+        for item in ast.parse(sources()[module + ".py"]).body:
+            if isinstance(item, ast.Assign):
+                found |= {target.id for target in item.targets}
+            elif isinstance(item, (ast.FunctionDef, ast.ClassDef)):
+                found.add(item.name)
+        return found
+
+    def test_only_allowed_builtins_are_used(self):
+        for name, text in sources().items():
+            table = symtable.symtable(text, name, "exec")
+            bound = {symbol.get_name() for symbol in table.get_symbols() if symbol.is_assigned()}
+            bound |= {symbol.get_name() for symbol in table.get_symbols() if symbol.is_imported()}
+            bound |= {inner.get_name() for inner in table.get_children()}
+            self.assertLessEqual(free_names(table) - bound, BUILTINS, name)
+            self.assertFalse(bound & BUILTINS, name)
+
+    def test_plain_names(self):
+        for where, node in nodes():
+            if isinstance(node, ast.Attribute):
+                self.assertTrue(re.fullmatch(r"_?[A-Za-z]\w*", node.attr)
+                                or node.attr in ("__init__", "__class__", "__name__"), where)
+
+
+class Statements(unittest.TestCase):
+    barred = (
+        ast.Global, ast.AsyncFunctionDef, ast.Await, ast.Div, ast.GeneratorExp, ast.Is, ast.IsNot, ast.Try, ast.Set,
+        ast.Match, ast.With, ast.Yield, ast.YieldFrom, ast.AnnAssign, ast.NamedExpr,
+    )
+
+    def test_nothing_beyond_what_this_package_needs(self):
+        for where, node in nodes():
+            self.assertNotIsInstance(node, self.barred, where)
+            if isinstance(node, ast.Constant):
+                self.assertIn(node.value.__class__, (int, str, bool, None.__class__), where)
+            if isinstance(node, ast.FunctionDef):
+                shown = [ast.unparse(decorator) for decorator in node.decorator_list]
+                self.assertIn(shown, ([], ["property"]), where)
+            if isinstance(node, ast.ClassDef):
+                self.assertEqual((node.decorator_list, len(node.bases) <= 1), ([], True), where)
+
+    def test_module_level(self):
+        for name, text in sources().items():
+            for item in ast.parse(text).body:
+                self.assertIsInstance(item, (ast.Expr, ast.ImportFrom, ast.Assign, ast.FunctionDef, ast.ClassDef), name)
+
+
+class Interface(unittest.TestCase):
+    def test_functions_and_classes(self):
+        for module, listed in INTERFACE.items():
+            for name, parameters in listed.items():
+                found = getattr(MODULES[module], name)
+                self.assertEqual(found.__module__, f"evenodds.{module}")
+                self.assertEqual(str(inspect.signature(found)), parameters, name)
+
+    def test_methods(self):
+        for name, parameters in METHODS.items():
+            self.assertEqual(str(inspect.signature(vars(orders.Order)[name])), parameters, name)
+
+
+if __name__ == "__main__":
+    unittest.main()
