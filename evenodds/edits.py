@@ -1,7 +1,7 @@
 """Edits: small changes of an order, told as tuples."""
 
-from evenodds.errors import DuplicateName, InvalidEdit, InvalidName, MissingCover
-from evenodds.orders import Order, check_known, is_name
+from evenodds.errors import DuplicateName, InvalidEdit, MissingCover
+from evenodds.orders import Order, check_are_names, check_known
 from evenodds.relations import renamed
 
 # The first item of each form, and its number of items.
@@ -44,8 +44,7 @@ def without_cover(order, lower, upper):
 
 def with_new_name(order, old, new):
     """The order in which the thing `old` is named `new`."""
-    if not is_name(new):
-        raise InvalidName(new)
+    check_are_names((new,))
     if new in order and new != old:
         raise DuplicateName(new)
     check_known(order, (old,))

@@ -41,11 +41,16 @@ def repeats(items):
     return found
 
 
+def check_are_names(texts):
+    """Raise InvalidName for the first of the texts that is not a name."""
+    for text in texts:
+        if not is_name(text):
+            raise InvalidName(text)
+
+
 def check_names(names):
     """Raise InvalidName or DuplicateName if the texts cannot be the names of an order."""
-    for name in names:
-        if not is_name(name):
-            raise InvalidName(name)
+    check_are_names(names)
     again = repeats(names)
     if again:
         raise DuplicateName(again[0])

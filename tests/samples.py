@@ -1,6 +1,29 @@
-"""Orders, and the one way to ask for an error, that several test files share."""
+"""Orders, wrong arguments, and the one way to ask for an error, that several test files share."""
 
+from evenodds.counts import Counts
 from evenodds.orders import Order
+
+# Of 60 digits, as many as an integer that is passed may have.
+BIG = 10 ** 59
+WRONG_WEIGHTS = (-1, -2, 10, 11, BIG, 9 * BIG, -BIG)
+
+# For each weight some lists that are not rank sets for it.
+WRONG_RANKS = (
+    (0, (1,)), (0, (0,)), (0, (-1,)), (1, (2,)), (1, (0,)), (1, (0, 1)), (1, (1, 1)), (1, (1, 2)), (3, (4,)),
+    (3, (2, 1)), (3, (1, 1)), (3, (1, 3, 2)), (3, (1, 2, 2)), (3, (1, 2, 3, 4)), (3, (0, 1, 2)), (3, (-1, 1)),
+    (3, (3, 2, 1)), (3, (1, 2, 3, 3)), (3, (2, 3, 1)), (3, (1, BIG)), (3, (-BIG, 1)), (3, (BIG,)), (9, (10,)),
+    (9, (0,)), (9, (9, 9)), (9, (9, 8)), (9, (1, 2, 3, 4, 5, 6, 7, 8, 9, 10)), (9, (0, 1, 2, 3, 4, 5, 6, 7, 8, 9)),
+    (9, (-9,)), (9, tuple(range(1, 1001))), (9, (1,) * 1000),
+)
+
+# What has none of the five forms of an edit.
+WRONG_FORMS = (
+    (), [], ("add",), ("add", "a"), ("add", "a", []), ("add", "a", [], [], []), ("drop",), ("drop", "w", "x"),
+    ("cover",), ("cover", "a"), ("cover", "a", "b", "c"), ("uncover", "a"), ("uncover", "a", "b", "c"),
+    ("rename", "a"), ("rename", "a", "b", "c"), ("rename",), ("Drop", "w"), ("drop ", "w"), ("drop\n", "w"),
+    ("", "w"), ("remove", "w"), (1, "w"), (0,), (None, "w"), (None,), (("drop",), "w"), (("drop", "w"),),
+    (["drop"], "w"), ([["drop", "w"]],), ([], "w"), ((), "w"), ((1, (None, [2, ["a"]])), "w"), [["drop", "w"]],
+)
 
 
 class Asks:
@@ -29,13 +52,17 @@ def shown_values(error):
     return [getattr(error, name) for name in code.co_varnames[1:code.co_argcount]]
 
 
-def answer(function, *given):
+def answer(function, *given, **named):
     """The result of a call as plain values: an order by its names and covers, an error by its attributes."""
     try:
-        order = function(*given)
+        found = function(*given, **named)
     except ValueError as error:
         return ("error", error.__class__.__name__, tuple(shown_values(error)))
-    return ("order", order.names, order.covers)
+    if isinstance(found, Order):
+        return ("order", found.names, found.covers)
+    if isinstance(found, Counts):
+        return ("counts", found.weight, found.pairs())
+    return ("value", found)
 
 
 def one():
@@ -69,6 +96,57 @@ def wide(count):
 def wide_lists(count):
     middle = [f"m{k}" for k in range(count - 2)]
     return ["n"] + middle + ["o"], [("n", m) for m in middle] + [(m, "o") for m in middle]
+
+
+def full(*sizes):
+    """The order with so many middle things of each rank, each below all of the next rank; m1-0 has rank 1."""
+    levels = [["n"]] + [[f"m{k}-{j}" for j in range(size)] for k, size in enumerate(sizes, start=1)] + [["o"]]
+    names = [name for level in levels for name in level]
+    return Order(names, [(x, y) for level, after in zip(levels, levels[1:]) for x in level for y in after])
+
+
+def crooked():
+    """An uneven order with as many even as odd ranks; by place it is bot b a c k j x top."""
+    names = ["top", "k", "j", "b", "a", "c", "x", "bot"]
+    covers = [("k", "top"), ("j", "top"), ("x", "top"), ("a", "x"), ("a", "k"), ("c", "x"), ("b", "j"), ("b", "k")]
+    return Order(names, covers + [("bot", "c"), ("bot", "a"), ("bot", "b")])
+
+
+def random_lists(source):
+    """Names in ranks and covers mostly between neighbouring ranks, with a few slips."""
+    ranks = [["n"]] + [[f"r{k}-{j}" for j in range(source.randint(1, 3))] for k in range(source.randint(0, 3))]
+    ranks.append(["o"])
+    covers = [(low, high) for lower, upper in zip(ranks, ranks[1:]) for low in lower for high in upper]
+    covers = [pair for pair in covers if source.random() < 0.9]
+    names = [name for rank in ranks for name in rank]
+    if source.random() < 0.2:
+        covers.append((source.choice(names + ["q"]), source.choice(names + ["q"])))
+    if source.random() < 0.1:
+        names.append(source.choice(names + ["B", "q", "r"]))
+    source.shuffle(names)
+    source.shuffle(covers)
+    return names, covers
+
+
+def all_edits(order):
+    """Edits of all forms with known, unknown and wrong names, most of which cannot be applied."""
+    texts = order.names + ("q", "B")
+    lists = [(), texts[:1], texts[-3:-1], (texts[0], texts[1]), (texts[1], texts[1]), ("v",), (order.greatest,)]
+    for word in ("add", "drop", "cover", "uncover", "rename", "turn"):
+        for name in texts + ("v",):
+            yield (word, name)
+            yield from ((word, name, other) for other in texts + ("v",))
+            yield from ((word, name, lowers, uppers) for lowers in lists for uppers in lists)
+
+
+def random_orders(source, count):
+    """So many good orders from random lists."""
+    found = []
+    while len(found) < count:
+        lists = random_lists(source)
+        if answer(Order, *lists)[0] == "order":
+            found.append(Order(*lists))
+    return found
 
 
 def triangle():

@@ -1,19 +1,39 @@
-"""The common rules, points [1] to [5], as far as they speak of orders, relations and edits."""
+"""The common rules, points [1] to [5], for all modules that stand so far."""
 
 import copy
 import unittest
 
 from evenodds import errors
+from evenodds.counts import (
+    Counts,
+    alpha,
+    alphas,
+    alphas_of_betas,
+    beta,
+    betas_of_alphas,
+    chain_ranks,
+    chains,
+    is_chain,
+)
 from evenodds.edits import apply_edit, apply_edits, inverse_edit
+from evenodds.evencheck import is_even, is_uneven_paper, parity_counts, uneven_stretch, uneven_stretches
 from evenodds.orders import Order
+from evenodds.ordertext import format_edit, format_order, parse_edit, parse_order
+from evenodds.ranksets import complement, is_rank_set, rank_sets, ranks_of, subsets, word_of
 from evenodds.relations import is_alike, is_matching, order_from_relations, relations, renamed
-from samples import Asks, answer, diamond, line, one, two, wide
+from evenodds.stretches import inner_things, stretch, stretch_order, stretches
+from samples import Asks, answer, crooked, diamond, full, line, one, two, wide
 
 
 def everything(order):
     """All that the interface tells of an order."""
     told = [order.names, order.covers, order.height, order.weight, order.least, order.greatest, order.size]
     told += [order.at_rank(rank) for rank in range(-2, 12)] + [tuple(order), relations(order)]
+    told += [format_order(order), stretches(order), stretches(order, least_length=0), uneven_stretch(order)]
+    told += [uneven_stretches(order), is_even(order)]
+    if order.height > 0:
+        told += [alphas(order).pairs(), betas_of_alphas(alphas(order)).pairs()]
+        told += [chains(order, ranks, with_ends=True) for ranks in rank_sets(order.weight)]
     for name in order:
         told += [order.rank(name), order.place(name), order.lowers(name), order.uppers(name), name in order]
         told += [(order.is_below(name, other), order.is_at_most(name, other)) for other in order]
@@ -39,6 +59,43 @@ class Arguments(unittest.TestCase):
         (inverse_edit, diamond(), ["add", "v", ["w"], ["z"]]),
         (apply_edits, diamond(), [["add", "v", ["w"], ["z"]], ["drop", "x"]]),
         (apply_edits, diamond(), [["add", "v", ["w"], ["z"]], ["drop", "q"]]),
+        (format_order, diamond()),
+        (format_edit, ["add", "v", ["w"], ["z", "y"]]),
+        (format_edit, ["add", "v", ["w", "B"], []]),
+        (format_edit, ["add", ["v", ["w"]], [[]]]),
+        (parse_order, "b:\na: b"),
+        (parse_edit, "add v w z,y"),
+        (stretch, crooked(), "bot", "k"),
+        (inner_things, crooked(), "bot", "k"),
+        (stretch_order, crooked(), "bot", "k"),
+        (stretches, crooked()),
+        (parity_counts, crooked(), "bot", "k"),
+        (uneven_stretch, crooked()),
+        (uneven_stretches, crooked()),
+        (is_even, crooked()),
+        (is_uneven_paper, crooked(), ("bot", "j", 2, 1)),
+        (is_uneven_paper, crooked(), ["bot", "j", 2, 1]),
+        (is_rank_set, [1, 3], 4),
+        (rank_sets, 3),
+        (complement, [1, 3], 4),
+        (complement, [3, 1], 4),
+        (subsets, [1, 3]),
+        (subsets, [1, 1]),
+        (word_of, [1, 3], 4),
+        (word_of, [5], 4),
+        (ranks_of, "baba"),
+        (is_chain, crooked(), ["b", "k"]),
+        (chain_ranks, crooked(), ["b", "k"]),
+        (chain_ranks, crooked(), ["b", "k", "j"]),
+        (chains, crooked(), [1, 2]),
+        (chains, crooked(), [2, 1]),
+        (Counts, 2, {(2,): 3, (): 1}),
+        (Counts, 2, {(2,): 3, (3,): 1}),
+        (alpha, crooked(), [1, 2]),
+        (alphas, crooked()),
+        (beta, crooked(), [1, 2]),
+        (betas_of_alphas, Counts(2, {(2,): 3, (): 1})),
+        (alphas_of_betas, Counts(2, {(2,): 3, (): 1})),
     )
 
     def test_no_argument_is_modified(self):
@@ -54,10 +111,9 @@ class Arguments(unittest.TestCase):
 
     def test_equal_calls_give_equal_values(self):
         for function, *given in self.calls:
-            if function in (is_matching, inverse_edit):
-                self.assertEqual(function(*given), function(*copy.deepcopy(given)))
-            else:
-                self.assertEqual(answer(function, *given), answer(function, *copy.deepcopy(given)))
+            first = answer(function, *given)
+            self.assertEqual(first, answer(function, *copy.deepcopy(given)))
+            self.assertEqual(first, answer(function, *given))
 
     def assert_not_kept(self, function, *given):
         order = function(*given)
@@ -76,6 +132,15 @@ class Arguments(unittest.TestCase):
         self.assert_not_kept(renamed, diamond(), ["d", "c", "b", "a"])
         self.assert_not_kept(apply_edit, diamond(), ["add", "v", ["w"], ["z"]])
         self.assert_not_kept(apply_edits, diamond(), [["add", "v", ["w"], ["z"]], ["drop", "x"]])
+
+    def test_a_later_change_of_a_rank_set_or_a_chain_has_no_effect(self):
+        for function, given, items in (
+            (chains, [crooked()], [1, 2]), (chain_ranks, [crooked()], ["bot", "k"]), (subsets, [], [1, 3]),
+        ):
+            found = function(*given, items)
+            told = copy.deepcopy(found)
+            items.clear()
+            self.assertEqual(found, told)
 
     def test_an_inverse_and_an_error_keep_no_list(self):
         edit = ["add", "v", ["w"], ["z"]]
@@ -96,6 +161,10 @@ class Arguments(unittest.TestCase):
         apply_edits(changed, [("add", "x", ["w"], ["z"]), ("rename", "x", "q")])
         renamed(order, ["a", "b", "c", "d"])
         self.assertEqual(everything(order), told)
+
+
+class Pair(tuple):
+    """A tuple of another class, which is never returned."""
 
 
 class Values(unittest.TestCase):
@@ -119,18 +188,54 @@ class Values(unittest.TestCase):
         for edit in (["add", "v", ["w"], ["z"]], ["drop", "x"], ["rename", "x", "q"]):
             self.assert_own_kinds(inverse_edit(diamond(), edit))
 
-    def test_kinds_of_tuples_of_another_class(self):
-        class Pair(tuple):
-            pass
+    def test_kinds_of_all_calls(self):
+        for function, *given in Arguments.calls:
+            self.assert_own_kinds(answer(function, *given))
 
+    def test_kinds_of_texts_stretches_and_ranks(self):
+        for order in (one(), two(), crooked(), full(1, 2, 1)):
+            self.assert_own_kinds(stretches(order, least_length=-1))
+            for low, high in stretches(order, least_length=0):
+                for function in (stretch, inner_things, parity_counts):
+                    self.assert_own_kinds(function(order, low, high))
+        for text in ("add x . .", "add x a,b .", "drop x", "cover a b", "rename a b"):
+            self.assert_own_kinds(parse_edit(text))
+        for weight in range(5):
+            self.assert_own_kinds(rank_sets(weight))
+            for ranks in rank_sets(weight):
+                self.assert_own_kinds((complement(list(ranks), weight), subsets(list(ranks)), word_of(ranks, weight)))
+                self.assertIs(ranks.__class__, tuple)
+
+    def test_kinds_of_chains_and_counts(self):
+        for order in (two(), crooked(), full(1, 2, 1)):
+            for ranks in rank_sets(order.weight):
+                for with_ends in (False, True):
+                    self.assert_own_kinds(chains(order, list(ranks), with_ends=with_ends))
+                self.assertIs(alpha(order, ranks).__class__, int)
+                self.assertIs(beta(order, ranks).__class__, int)
+            for counts in (alphas(order), betas_of_alphas(alphas(order)), alphas(order) + alphas(order)):
+                self.assertIs(counts.__class__, Counts)
+                self.assert_own_kinds((counts.weight, counts.pairs(), tuple(counts)))
+                self.assertIs(counts.weight.__class__, int)
+                self.assertEqual({number.__class__ for _, number in counts.pairs()}, {int})
+
+    def test_kinds_of_tuples_of_another_class(self):
         order = Order(Pair(["b", "a"]), Pair([Pair(["a", "b"])]))
         for value in everything(order):
+            self.assert_own_kinds(value)
+        ranks, things = Pair([1, 2]), Pair(["b", "k"])
+        for value in (complement(ranks, 3), subsets(ranks), chains(crooked(), ranks), chain_ranks(crooked(), things),
+                      chains(crooked(), ranks, with_ends=True), Counts(2, {ranks: 3}).pairs()):
             self.assert_own_kinds(value)
 
     def test_answers_are_true_or_false(self):
         for value in (is_alike(one(), one()), is_alike(one(), two()), is_matching(one(), two(), []),
-                      is_matching(one(), one(), [("x", "x")]), one() == one(), one() == two(), "x" in one()):
-            self.assertIn(value, (True, False))
+                      is_matching(one(), one(), [("x", "x")]), one() == one(), one() == two(), "x" in one(),
+                      is_even(one()), is_even(crooked()), is_uneven_paper(one(), ()), is_uneven_paper(one(), None),
+                      is_uneven_paper(crooked(), ("bot", "j", 2, 1)), is_rank_set((), 0), is_rank_set((), 10),
+                      is_rank_set([1], 1), is_rank_set([2], 1), is_chain(one(), []), is_chain(one(), ["q"]),
+                      is_chain(two(), [], with_ends=True), is_chain(two(), ["a", "b"], with_ends=True),
+                      Counts(0, {}) == Counts(0, {}), Counts(0, {}) == None, Counts(0, {}) == Counts(1, {})):
             self.assertIs(value.__class__, bool)
 
 
@@ -145,6 +250,9 @@ class EqualOrders(unittest.TestCase):
             renamed(Order(["a", "b", "c", "d"], [("a", "b"), ("a", "c"), ("b", "d"), ("c", "d")]), "w y x z".split()),
             apply_edits(line(3), [("rename", "t0", "w"), ("rename", "t1", "y"), ("rename", "t2", "z"),
                                   ("add", "x", ["w"], ["z"])]),
+            parse_order(format_order(diamond())),
+            parse_order("z:\ny: z\nw: x y\nx: z"),
+            stretch_order(parse_order("z: u\ny: z\nx: z\nu:\nv: w\nw: x y"), "w", "z"),
         ]
         edits = [("drop", "x"), ("rename", "y", "q"), ("add", "v", ["w"], ["z"]), ("cover", "w", "z"), ("drop", "w"),
                  ("uncover", "x", "y"), ("cover", "z", "w"), ("drop", "q"), ("add", "v", ["z"], ["x"]), ()]

@@ -7,15 +7,7 @@ from evenodds.edits import apply_edit, apply_edits, inverse_edit
 from evenodds.orders import Order
 from evenodds.relations import is_alike
 from plain import tuples_only
-from samples import Asks, diamond, line, line_lists, one, two, wide
-
-WRONG_FORMS = (
-    (), [], ("add",), ("add", "a"), ("add", "a", []), ("add", "a", [], [], []), ("drop",), ("drop", "w", "x"),
-    ("cover",), ("cover", "a"), ("cover", "a", "b", "c"), ("uncover", "a"), ("uncover", "a", "b", "c"),
-    ("rename", "a"), ("rename", "a", "b", "c"), ("rename",), ("Drop", "w"), ("drop ", "w"), ("drop\n", "w"),
-    ("", "w"), ("remove", "w"), (1, "w"), (0,), (None, "w"), (None,), (("drop",), "w"), (("drop", "w"),),
-    (["drop"], "w"), ([["drop", "w"]],), ([], "w"), ((), "w"), ((1, (None, [2, ["a"]])), "w"), [["drop", "w"]],
-)
+from samples import WRONG_FORMS, Asks, diamond, line, line_lists, one, two, wide
 
 
 class Both(Asks):

@@ -8,10 +8,13 @@ import symtable
 import unittest
 
 import evenodds
-from evenodds import edits, errors, orders, relations
+from evenodds import counts, edits, errors, evencheck, orders, ordertext, ranksets, relations, stretches
 
 FOLDER = os.path.dirname(evenodds.__file__)
-MODULES = {"errors": errors, "orders": orders, "relations": relations, "edits": edits}
+MODULES = {
+    "errors": errors, "orders": orders, "relations": relations, "edits": edits, "ordertext": ordertext,
+    "stretches": stretches, "evencheck": evencheck, "ranksets": ranksets, "counts": counts,
+}
 
 LIBRARY = {
     "heapq": {"heappush", "heappop", "heapify", "heapreplace", "heappushpop"},
@@ -36,12 +39,48 @@ INTERFACE = {
     "edits": {
         "apply_edit": "(order, edit)", "inverse_edit": "(order, edit)", "apply_edits": "(order, edits)",
     },
+    "ordertext": {
+        "format_order": "(order)", "parse_order": "(text)", "format_edit": "(edit)", "parse_edit": "(line)",
+    },
+    "stretches": {
+        "stretch": "(order, low, high)", "inner_things": "(order, low, high)",
+        "stretch_order": "(order, low, high)", "stretches": "(order, *, least_length=1)",
+    },
+    "evencheck": {
+        "parity_counts": "(order, low, high)", "uneven_stretch": "(order)", "uneven_stretches": "(order)",
+        "is_even": "(order)", "is_uneven_paper": "(order, paper)",
+    },
+    "ranksets": {
+        "is_rank_set": "(ranks, weight)", "rank_sets": "(weight)", "complement": "(ranks, weight)",
+        "subsets": "(ranks)", "word_of": "(ranks, weight)", "ranks_of": "(word)",
+    },
+    "counts": {
+        "is_chain": "(order, things, *, with_ends=False)", "chain_ranks": "(order, things)",
+        "chains": "(order, ranks, *, with_ends=False)", "Counts": "(weight, table)", "alpha": "(order, ranks)",
+        "alphas": "(order)", "betas_of_alphas": "(counts)", "alphas_of_betas": "(counts)",
+        "beta": "(order, ranks)",
+    },
 }
 
+# The methods that the interface lists for each class, and the operators that the points name.
 METHODS = {
-    "rank": "(self, name)", "place": "(self, name)", "at_rank": "(self, rank)", "is_below": "(self, low, high)",
-    "is_at_most": "(self, low, high)", "lowers": "(self, name)", "uppers": "(self, name)",
+    orders.Order: {
+        "rank": "(self, name)", "place": "(self, name)", "at_rank": "(self, rank)", "is_below": "(self, low, high)",
+        "is_at_most": "(self, low, high)", "lowers": "(self, name)", "uppers": "(self, name)",
+    },
+    counts.Counts: {"pairs": "(self)"},
 }
+OPERATORS = {
+    orders.Order: ("__eq__", "__contains__", "__iter__"),
+    counts.Counts: ("__eq__", "__getitem__", "__iter__", "__add__", "__sub__"),
+}
+
+# The methods of builtin values that may be called.
+BUILTIN_METHODS = set("""
+    append clear copy count endswith extend find get index insert isalnum isalpha isdigit islower isspace isupper
+    items join keys ljust lower lstrip partition pop remove replace reverse rfind rjust rpartition rsplit rstrip
+    setdefault split splitlines startswith strip update upper values zfill bit_length add discard
+""".split())
 
 
 def sources():
@@ -117,6 +156,24 @@ class Names(unittest.TestCase):
             self.assertLessEqual(free_names(table) - bound, BUILTINS, name)
             self.assertFalse(bound & BUILTINS, name)
 
+    def test_no_inner_name_is_that_of_an_import_or_a_class(self):
+        for name, text in sources().items():
+            tree = ast.parse(text)
+            outer = {alias.name for item in tree.body if isinstance(item, ast.ImportFrom) for alias in item.names}
+            outer |= {item.name for item in tree.body if isinstance(item, ast.ClassDef)}
+            for node in ast.walk(tree):
+                if isinstance(node, ast.arg):
+                    self.assertNotIn(node.arg, outer, name)
+                if isinstance(node, ast.Name) and isinstance(node.ctx, ast.Store):
+                    self.assertNotIn(node.id, outer, name)
+
+    def test_only_allowed_methods_are_called(self):
+        own = {item.name for _, node in nodes() if isinstance(node, ast.ClassDef)
+               for item in node.body if isinstance(item, ast.FunctionDef)}
+        for where, node in nodes():
+            if isinstance(node, ast.Call) and isinstance(node.func, ast.Attribute):
+                self.assertIn(node.func.attr, BUILTIN_METHODS | own, where)
+
     def test_plain_names(self):
         for where, node in nodes():
             if isinstance(node, ast.Attribute):
@@ -126,8 +183,8 @@ class Names(unittest.TestCase):
 
 class Statements(unittest.TestCase):
     barred = (
-        ast.Global, ast.AsyncFunctionDef, ast.Await, ast.Div, ast.GeneratorExp, ast.Is, ast.IsNot, ast.Try, ast.Set,
-        ast.Match, ast.With, ast.Yield, ast.YieldFrom, ast.AnnAssign, ast.NamedExpr,
+        ast.Global, ast.AsyncFunctionDef, ast.Await, ast.Div, ast.GeneratorExp, ast.Try, ast.Set, ast.Match,
+        ast.With, ast.Yield, ast.YieldFrom, ast.AnnAssign, ast.NamedExpr,
     )
 
     def test_nothing_beyond_what_this_package_needs(self):
@@ -140,6 +197,8 @@ class Statements(unittest.TestCase):
                 self.assertIn(shown, ([], ["property"]), where)
             if isinstance(node, ast.ClassDef):
                 self.assertEqual((node.decorator_list, len(node.bases) <= 1), ([], True), where)
+            if isinstance(node, ast.Compare) and isinstance(node.ops[0], (ast.Is, ast.IsNot)):
+                self.assertEqual(ast.unparse(node.comparators[0]), "None", where)
 
     def test_module_level(self):
         for name, text in sources().items():
@@ -156,8 +215,14 @@ class Interface(unittest.TestCase):
                 self.assertEqual(str(inspect.signature(found)), parameters, name)
 
     def test_methods(self):
-        for name, parameters in METHODS.items():
-            self.assertEqual(str(inspect.signature(vars(orders.Order)[name])), parameters, name)
+        for owner, listed in METHODS.items():
+            for name, parameters in listed.items():
+                self.assertEqual(str(inspect.signature(vars(owner)[name])), parameters, name)
+
+    def test_operators(self):
+        for owner, listed in OPERATORS.items():
+            for name in listed:
+                self.assertIn(name, vars(owner))
 
 
 if __name__ == "__main__":

@@ -8,28 +8,12 @@ from evenodds.edits import apply_edit, apply_edits, inverse_edit
 from evenodds.orders import Order
 from evenodds.relations import is_alike, is_matching, order_from_relations, relations
 from plain import closure, edit_answer, longest, order_answer, relation_answer
-from samples import answer, diamond, line, one, triangle, two
+from samples import all_edits, answer, diamond, line, one, random_lists, triangle, two
 
 
 def subsets(items):
     for count in range(len(items) + 1):
         yield from itertools.combinations(items, count)
-
-
-def random_lists(source):
-    """Names in ranks and covers mostly between neighbouring ranks, with a few slips."""
-    ranks = [["n"]] + [[f"r{k}-{j}" for j in range(source.randint(1, 3))] for k in range(source.randint(0, 3))]
-    ranks.append(["o"])
-    covers = [(low, high) for lower, upper in zip(ranks, ranks[1:]) for low in lower for high in upper]
-    covers = [pair for pair in covers if source.random() < 0.9]
-    names = [name for rank in ranks for name in rank]
-    if source.random() < 0.2:
-        covers.append((source.choice(names + ["q"]), source.choice(names + ["q"])))
-    if source.random() < 0.1:
-        names.append(source.choice(names + ["B", "q", "r"]))
-    source.shuffle(names)
-    source.shuffle(covers)
-    return names, covers
 
 
 class Orders(unittest.TestCase):
@@ -85,19 +69,10 @@ class Orders(unittest.TestCase):
 
 
 class Edits(unittest.TestCase):
-    def all_edits(self, order):
-        texts = order.names + ("q", "B")
-        lists = [(), texts[:1], texts[-3:-1], (texts[0], texts[1]), (texts[1], texts[1]), ("v",), (order.greatest,)]
-        for word in ("add", "drop", "cover", "uncover", "rename", "turn"):
-            for name in texts + ("v",):
-                yield (word, name)
-                yield from ((word, name, other) for other in texts + ("v",))
-                yield from ((word, name, lowers, uppers) for lowers in lists for uppers in lists)
-
     def test_all_edits_of_small_orders(self):
         good = 0
         for order in (one(), two(), line(3), diamond(), triangle()):
-            for edit in self.all_edits(order):
+            for edit in all_edits(order):
                 due = edit_answer(order.names, order.covers, edit)
                 self.assertEqual(answer(apply_edit, order, edit), due, (order.names, edit))
                 self.assertEqual(answer(apply_edits, order, [list(edit)]), due)
