@@ -41,6 +41,11 @@ def check_height(order):
         raise TooLow(order.height)
 
 
+def sign_of(count):
+    """The power of -1 that has this exponent."""
+    return 1 if count % 2 == 0 else -1
+
+
 def total_below(order, numbers, name):
     """The sum of the numbers of all things below the thing."""
     return sum([numbers[low] for low in numbers if order.is_below(low, name)])
@@ -71,7 +76,7 @@ def chains(order, ranks, *, with_ends=False):
 
 
 def check_like(first, second):
-    """Raise UnlikeSums if the two `Counts` have not the same weight."""
+    """Raise UnlikeSums if the two have not the same weight."""
     if first.weight != second.weight:
         raise UnlikeSums("weight")
 

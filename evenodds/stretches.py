@@ -1,7 +1,13 @@
 """Stretches: all things from one thing of an order up to another."""
 
-from evenodds.errors import NotBelow
+from evenodds.errors import SMALL_THINGS, NotBelow, TooMany
 from evenodds.orders import Order
+
+
+def check_small(order):
+    """Raise TooMany if the order has too many things to go through all of its stretches in every way."""
+    if order.size > SMALL_THINGS:
+        raise TooMany("things", SMALL_THINGS)
 
 
 def check_at_most(order, low, high):

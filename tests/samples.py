@@ -2,6 +2,7 @@
 
 from evenodds.counts import Counts
 from evenodds.orders import Order
+from evenodds.words import WordSum
 
 # Of 60 digits, as many as an integer that is passed may have.
 BIG = 10 ** 59
@@ -35,9 +36,14 @@ class Asks:
         error = caught.exception
         self.assertIs(error.__class__, expected)
         self.assertEqual(error.label, expected.__name__)
-        shown = tuple(shown_values(error))
-        self.assertEqual(shown, values)
-        self.assertEqual([item.__class__ for item in shown], [item.__class__ for item in values])
+        told = tuple(shown_values(error))
+        self.assertEqual(told, values)
+        self.assertEqual([item.__class__ for item in told], [item.__class__ for item in values])
+
+    def assert_sum(self, word_sum, letters, weight, terms):
+        """The word sum has exactly these letters, this weight and these terms."""
+        self.assertIs(word_sum.__class__, WordSum)
+        self.assertEqual((word_sum.letters, word_sum.weight, word_sum.terms), (letters, weight, terms))
 
     def assert_same_order(self, order, names, covers):
         """The order has these names and covers, in exactly this sequence."""
@@ -58,10 +64,19 @@ def answer(function, *given, **named):
         found = function(*given, **named)
     except ValueError as error:
         return ("error", error.__class__.__name__, tuple(shown_values(error)))
+    return shown(found)
+
+
+def shown(found):
+    """A returned value as plain values."""
     if isinstance(found, Order):
         return ("order", found.names, found.covers)
     if isinstance(found, Counts):
         return ("counts", found.weight, found.pairs())
+    if isinstance(found, WordSum):
+        return ("sum", found.letters, found.weight, found.terms)
+    if isinstance(found, dict):
+        return ("table", tuple(found.items()))
     return ("value", found)
 
 
@@ -155,3 +170,22 @@ def triangle():
     covers = [("none", f"v{k}") for k in range(3)] + [(f"e{k}", "whole") for k in range(3)]
     covers += [(f"v{k}", f"e{k}") for k in range(3)] + [(f"v{(k + 1) % 3}", f"e{k}") for k in range(3)]
     return Order(names, covers)
+
+
+def some_sums(letters, weight, source, count):
+    """So many word sums of the letter pair and weight, the zero sum first, with small numbers."""
+    words = all_words(letters, weight)
+    found = [WordSum(letters, weight, [])]
+    while len(found) < count:
+        chosen = [word for word in words if source.random() < 0.6]
+        found.append(WordSum(letters, weight, [(word, source.randint(-4, 4)) for word in chosen]))
+    return found
+
+
+def all_words(letters, weight):
+    """All words of the letter pair and weight, as texts are compared."""
+    if weight <= 0:
+        return [""] * (weight == 0)
+    first, second = letters
+    longer = [first + word for word in all_words(letters, weight - 1)]
+    return longer + [second + word for word in all_words(letters, weight - (2 if letters == "cd" else 1))]

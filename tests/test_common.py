@@ -4,6 +4,8 @@ import copy
 import unittest
 
 from evenodds import errors
+from evenodds.absum import ab_sum, betas_of_sum, stretch_sum, sum_of_betas
+from evenodds.cdwords import cd_count, cd_words, first_word, spread, word_of_first
 from evenodds.counts import (
     Counts,
     alpha,
@@ -17,12 +19,24 @@ from evenodds.counts import (
 )
 from evenodds.edits import apply_edit, apply_edits, inverse_edit
 from evenodds.evencheck import is_even, is_uneven_paper, parity_counts, uneven_stretch, uneven_stretches
+from evenodds.mirror import is_mirrored, mirrored, unmirrored_ranks, unmirrored_stretch, unmirrored_word
+from evenodds.moebius import (
+    is_mu_table,
+    mu,
+    mu_by_struck,
+    mu_table,
+    mu_without,
+    selected,
+    signed_total,
+    unlike_mu,
+)
 from evenodds.orders import Order
 from evenodds.ordertext import format_edit, format_order, parse_edit, parse_order
 from evenodds.ranksets import complement, is_rank_set, rank_sets, ranks_of, subsets, word_of
 from evenodds.relations import is_alike, is_matching, order_from_relations, relations, renamed
 from evenodds.stretches import inner_things, stretch, stretch_order, stretches
-from samples import Asks, answer, crooked, diamond, full, line, one, two, wide
+from evenodds.words import WordSum, format_sum, parse_sum, power, single, word_weight, zero_sum
+from samples import Asks, answer, crooked, diamond, full, line, one, shown, two, wide
 
 
 def everything(order):
@@ -30,14 +44,24 @@ def everything(order):
     told = [order.names, order.covers, order.height, order.weight, order.least, order.greatest, order.size]
     told += [order.at_rank(rank) for rank in range(-2, 12)] + [tuple(order), relations(order)]
     told += [format_order(order), stretches(order), stretches(order, least_length=0), uneven_stretch(order)]
-    told += [uneven_stretches(order), is_even(order)]
+    told += [uneven_stretches(order), is_even(order), tuple(mu_table(order).items()), unlike_mu(order)]
+    told += [mu_by_struck(order, order.names[1:-1:2])]
     if order.height > 0:
-        told += [alphas(order).pairs(), betas_of_alphas(alphas(order)).pairs()]
+        told += [alphas(order).pairs(), betas_of_alphas(alphas(order)).pairs(), ab_sum(order).terms]
+        told += [unmirrored_ranks(order)] + [selected(order, ranks).covers for ranks in rank_sets(order.weight)]
         told += [chains(order, ranks, with_ends=True) for ranks in rank_sets(order.weight)]
     for name in order:
         told += [order.rank(name), order.place(name), order.lowers(name), order.uppers(name), name in order]
         told += [(order.is_below(name, other), order.is_at_most(name, other)) for other in order]
     return told
+
+
+AB_SUM = WordSum("ab", 2, [("ba", 3), ("ab", -1)])
+CD_SUM = WordSum("cd", 3, [("dc", 2), ("ccc", 1), ("cd", -1)])
+
+
+def read_sum(text, weight):
+    return parse_sum(text, "ab", weight=weight)
 
 
 class Arguments(unittest.TestCase):
@@ -96,6 +120,41 @@ class Arguments(unittest.TestCase):
         (beta, crooked(), [1, 2]),
         (betas_of_alphas, Counts(2, {(2,): 3, (): 1})),
         (alphas_of_betas, Counts(2, {(2,): 3, (): 1})),
+        (WordSum, "ab", 2, [["ba", 1], ("ab", 2), ["ba", 3]]),
+        (WordSum, "ab", 2, [["ba", 1], ["b", 2]]),
+        (zero_sum, "cd", 2),
+        (single, "cd", "cdc"),
+        (word_weight, "cd", "cdc"),
+        (power, AB_SUM, 3),
+        (power, AB_SUM, -1),
+        (format_sum, AB_SUM),
+        (read_sum, "-ab + 3ba", 2),
+        (read_sum, "3ba - ab", 2),
+        (ab_sum, crooked()),
+        (sum_of_betas, Counts(2, {(2,): 3, (): 1})),
+        (betas_of_sum, AB_SUM),
+        (stretch_sum, crooked(), "bot", "k"),
+        (mu, crooked(), "bot", "k"),
+        (mu_table, crooked()),
+        (is_mu_table, two(), {("a", "b"): -1, ("b", "b"): 1, ("a", "a"): 1}),
+        (is_mu_table, two(), {("a", "b"): -1, ("b", "b"): 1, ("b", "a"): 0}),
+        (unlike_mu, crooked()),
+        (signed_total, crooked(), "bot", "k"),
+        (selected, crooked(), [2]),
+        (selected, crooked(), [2, 1]),
+        (mu_without, crooked(), ["b", "k", "b"]),
+        (mu_without, crooked(), ["b", "top"]),
+        (mu_by_struck, crooked(), ["b", "k", "b"]),
+        (mirrored, AB_SUM),
+        (is_mirrored, AB_SUM),
+        (unmirrored_word, AB_SUM),
+        (unmirrored_ranks, crooked()),
+        (unmirrored_stretch, crooked()),
+        (cd_words, 4),
+        (cd_count, 4),
+        (spread, CD_SUM),
+        (first_word, "cdc"),
+        (word_of_first, "aaba"),
     )
 
     def test_no_argument_is_modified(self):
@@ -136,11 +195,15 @@ class Arguments(unittest.TestCase):
     def test_a_later_change_of_a_rank_set_or_a_chain_has_no_effect(self):
         for function, given, items in (
             (chains, [crooked()], [1, 2]), (chain_ranks, [crooked()], ["bot", "k"]), (subsets, [], [1, 3]),
+            (selected, [crooked()], [2]), (WordSum, ["ab", 2], [["ba", 1], ["ab", 2]]),
         ):
             found = function(*given, items)
-            told = copy.deepcopy(found)
+            told = shown(copy.deepcopy(found))
+            for item in items:
+                if isinstance(item, list):
+                    item.clear()
             items.clear()
-            self.assertEqual(found, told)
+            self.assertEqual(shown(found), told)
 
     def test_an_inverse_and_an_error_keep_no_list(self):
         edit = ["add", "v", ["w"], ["z"]]
@@ -219,13 +282,26 @@ class Values(unittest.TestCase):
                 self.assertIs(counts.weight.__class__, int)
                 self.assertEqual({number.__class__ for _, number in counts.pairs()}, {int})
 
+    def test_kinds_of_word_sums(self):
+        for word_sum in (WordSum("ab", 2, [["ba", 1], ["ab", 2]]), AB_SUM + AB_SUM, AB_SUM * AB_SUM, AB_SUM * 3,
+                         0 * CD_SUM, -CD_SUM, CD_SUM.reversed_words(), (CD_SUM * 2).halved(), power(AB_SUM, 0),
+                         zero_sum("cd", 1), single("ab", ""), read_sum("-ab + 3ba", 2), ab_sum(crooked()),
+                         stretch_sum(crooked(), "b", "top"), sum_of_betas(alphas(two())), mirrored(AB_SUM),
+                         spread(CD_SUM)):
+            self.assertIs(word_sum.__class__, WordSum)
+            self.assert_own_kinds((word_sum.letters, word_sum.weight, word_sum.terms, tuple(word_sum)))
+            self.assertEqual((word_sum.letters.__class__, word_sum.weight.__class__), (str, int))
+            for word, number in word_sum.terms:
+                self.assertEqual((word.__class__, number.__class__), (str, int))
+
     def test_kinds_of_tuples_of_another_class(self):
         order = Order(Pair(["b", "a"]), Pair([Pair(["a", "b"])]))
         for value in everything(order):
             self.assert_own_kinds(value)
         ranks, things = Pair([1, 2]), Pair(["b", "k"])
         for value in (complement(ranks, 3), subsets(ranks), chains(crooked(), ranks), chain_ranks(crooked(), things),
-                      chains(crooked(), ranks, with_ends=True), Counts(2, {ranks: 3}).pairs()):
+                      chains(crooked(), ranks, with_ends=True), Counts(2, {ranks: 3}).pairs(),
+                      WordSum("ab", 1, Pair([Pair(["b", 2]), Pair(["a", 1])])).terms):
             self.assert_own_kinds(value)
 
     def test_answers_are_true_or_false(self):
@@ -235,7 +311,10 @@ class Values(unittest.TestCase):
                       is_uneven_paper(crooked(), ("bot", "j", 2, 1)), is_rank_set((), 0), is_rank_set((), 10),
                       is_rank_set([1], 1), is_rank_set([2], 1), is_chain(one(), []), is_chain(one(), ["q"]),
                       is_chain(two(), [], with_ends=True), is_chain(two(), ["a", "b"], with_ends=True),
-                      Counts(0, {}) == Counts(0, {}), Counts(0, {}) == None, Counts(0, {}) == Counts(1, {})):
+                      Counts(0, {}) == Counts(0, {}), Counts(0, {}) == None, Counts(0, {}) == Counts(1, {}),
+                      is_mu_table(one(), {}), is_mu_table(one(), {("x", "x"): 1}), is_mirrored(AB_SUM),
+                      is_mirrored(single("ab", "")), AB_SUM == AB_SUM, AB_SUM == CD_SUM, AB_SUM == None,
+                      "ab" in AB_SUM, "q" in AB_SUM, bool(AB_SUM), bool(zero_sum("ab", 0))):
             self.assertIs(value.__class__, bool)
 
 

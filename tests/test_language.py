@@ -8,12 +8,28 @@ import symtable
 import unittest
 
 import evenodds
-from evenodds import counts, edits, errors, evencheck, orders, ordertext, ranksets, relations, stretches
+from evenodds import (
+    absum,
+    cdwords,
+    counts,
+    edits,
+    errors,
+    evencheck,
+    mirror,
+    moebius,
+    orders,
+    ordertext,
+    ranksets,
+    relations,
+    stretches,
+    words,
+)
 
 FOLDER = os.path.dirname(evenodds.__file__)
 MODULES = {
     "errors": errors, "orders": orders, "relations": relations, "edits": edits, "ordertext": ordertext,
-    "stretches": stretches, "evencheck": evencheck, "ranksets": ranksets, "counts": counts,
+    "stretches": stretches, "evencheck": evencheck, "ranksets": ranksets, "counts": counts, "words": words,
+    "absum": absum, "moebius": moebius, "mirror": mirror, "cdwords": cdwords,
 }
 
 LIBRARY = {
@@ -60,6 +76,28 @@ INTERFACE = {
         "alphas": "(order)", "betas_of_alphas": "(counts)", "alphas_of_betas": "(counts)",
         "beta": "(order, ranks)",
     },
+    "words": {
+        "WordSum": "(letters, weight, terms)", "zero_sum": "(letters, weight)", "single": "(letters, word)",
+        "power": "(base, exponent)", "word_weight": "(letters, word)", "format_sum": "(word_sum)",
+        "parse_sum": "(text, letters, *, weight)",
+    },
+    "absum": {
+        "ab_sum": "(order)", "sum_of_betas": "(counts)", "stretch_sum": "(order, low, high)",
+        "betas_of_sum": "(word_sum)",
+    },
+    "moebius": {
+        "mu": "(order, low, high)", "mu_table": "(order)", "is_mu_table": "(order, table)", "unlike_mu": "(order)",
+        "signed_total": "(order, low, high)", "selected": "(order, ranks)", "mu_without": "(order, struck)",
+        "mu_by_struck": "(order, struck)",
+    },
+    "mirror": {
+        "mirrored": "(word_sum)", "is_mirrored": "(word_sum)", "unmirrored_word": "(word_sum)",
+        "unmirrored_ranks": "(order)", "unmirrored_stretch": "(order)",
+    },
+    "cdwords": {
+        "cd_words": "(weight)", "cd_count": "(weight)", "spread": "(word_sum)", "first_word": "(word)",
+        "word_of_first": "(word)",
+    },
 }
 
 # The methods that the interface lists for each class, and the operators that the points name.
@@ -69,17 +107,21 @@ METHODS = {
         "is_at_most": "(self, low, high)", "lowers": "(self, name)", "uppers": "(self, name)",
     },
     counts.Counts: {"pairs": "(self)"},
+    words.WordSum: {"coefficient": "(self, word)", "reversed_words": "(self)", "halved": "(self)"},
 }
 OPERATORS = {
     orders.Order: ("__eq__", "__contains__", "__iter__"),
     counts.Counts: ("__eq__", "__getitem__", "__iter__", "__add__", "__sub__"),
+    words.WordSum: ("__eq__", "__iter__", "__contains__", "__bool__", "__add__", "__sub__", "__neg__", "__mul__",
+                    "__rmul__"),
 }
 
 # The methods of builtin values that may be called.
 BUILTIN_METHODS = set("""
     append clear copy count endswith extend find get index insert isalnum isalpha isdigit islower isspace isupper
     items join keys ljust lower lstrip partition pop remove replace reverse rfind rjust rpartition rsplit rstrip
-    setdefault split splitlines startswith strip update upper values zfill bit_length add discard
+    setdefault split splitlines startswith strip update upper values zfill bit_length add discard removeprefix
+    removesuffix
 """.split())
 
 
