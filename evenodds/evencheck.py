@@ -1,5 +1,6 @@
 """Whether each stretch of an order has as many things of even rank as of odd rank."""
 
+from evenodds.errors import Uneven
 from evenodds.stretches import stretch, stretches
 
 
@@ -34,6 +35,14 @@ def uneven_stretches(order):
 def is_even(order):
     """True if no stretch of the order is uneven."""
     return uneven_stretch(order) is None
+
+
+def check_even(order):
+    """Raise Uneven with the first uneven stretch if the order is not even."""
+    paper = uneven_stretch(order)
+    if paper is not None:
+        low, high, evens, odds = paper
+        raise Uneven(low, high, evens, odds)
 
 
 def is_uneven_paper(order, paper):

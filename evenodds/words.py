@@ -138,6 +138,14 @@ def zero_sum(letters, weight):
     return WordSum(letters, weight, ())
 
 
+def added(first, others):
+    """The sum of the first word sum and of all of a list of others."""
+    found = first
+    for other in others:
+        found = found + other
+    return found
+
+
 def single(letters, word):
     """The sum of the one word with the number 1."""
     return WordSum(letters, word_weight(letters, word), [(word, 1)])

@@ -120,11 +120,30 @@ def full(*sizes):
     return Order(names, [(x, y) for level, after in zip(levels, levels[1:]) for x in level for y in after])
 
 
+def widest():
+    """An order with 40 things and height 9."""
+    return full(5, 5, 5, 5, 5, 5, 4, 4)
+
+
 def crooked():
     """An uneven order with as many even as odd ranks; by place it is bot b a c k j x top."""
     names = ["top", "k", "j", "b", "a", "c", "x", "bot"]
     covers = [("k", "top"), ("j", "top"), ("x", "top"), ("a", "x"), ("a", "k"), ("c", "x"), ("b", "j"), ("b", "k")]
     return Order(names, covers + [("bot", "c"), ("bot", "a"), ("bot", "b")])
+
+
+def skew():
+    """An uneven order of height 3 whose own letter sum is that of the triangle order."""
+    order = crooked()
+    return Order(order.names, order.covers + (("c", "k"),))
+
+
+def beside():
+    """An order of height 4 whose first uneven stretch is the whole: two even orders beside each other."""
+    order = full(2, 2, 2)
+    other = {name: name + "-x" for name in order.names[1:-1]}
+    more = [tuple(other.get(name, name) for name in pair) for pair in order.covers]
+    return Order(order.names + tuple(other.values()), order.covers + tuple(more))
 
 
 def random_lists(source):

@@ -10,7 +10,7 @@ from evenodds.orders import Order
 from evenodds.ranksets import rank_sets, word_of
 from evenodds.stretches import stretch_order, stretches
 from evenodds.words import WordSum, single, zero_sum
-from samples import BIG, Asks, crooked, diamond, full, line, one, random_orders, some_sums, triangle, two, wide
+from samples import BIG, Asks, crooked, diamond, full, line, one, random_orders, some_sums, triangle, two, wide, widest
 
 
 class LetterSums(Asks, unittest.TestCase):
@@ -35,7 +35,7 @@ class LetterSums(Asks, unittest.TestCase):
                     self.assertEqual(ab_sum(order).coefficient(word_of(ranks, order.weight)), beta(order, ranks))
 
     def test_forty_things(self):
-        order = full(5, 5, 5, 5, 5, 5, 4, 4)
+        order = widest()
         found = ab_sum(order)
         self.assertEqual((order.size, found.weight, len(found.terms)), (40, 8, 256))
         for word, number in found:

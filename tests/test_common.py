@@ -5,6 +5,7 @@ import unittest
 
 from evenodds import errors
 from evenodds.absum import ab_sum, betas_of_sum, stretch_sum, sum_of_betas
+from evenodds.cdread import cd_sum, is_readable, is_reading, read_cd, reading, unread_stretch
 from evenodds.cdwords import cd_count, cd_words, first_word, spread, word_of_first
 from evenodds.counts import (
     Counts,
@@ -19,6 +20,16 @@ from evenodds.counts import (
 )
 from evenodds.edits import apply_edit, apply_edits, inverse_edit
 from evenodds.evencheck import is_even, is_uneven_paper, parity_counts, uneven_stretch, uneven_stretches
+from evenodds.flagsback import (
+    balance_sides,
+    broken_balance,
+    few_numbers,
+    is_balanced,
+    is_sparse,
+    sparse_sets,
+    told_back,
+)
+from evenodds.letterrules import lifted, prism_sum, pyramid_sum, splits, splits_by_tops
 from evenodds.mirror import is_mirrored, mirrored, unmirrored_ranks, unmirrored_stretch, unmirrored_word
 from evenodds.moebius import (
     is_mu_table,
@@ -32,7 +43,9 @@ from evenodds.moebius import (
 )
 from evenodds.orders import Order
 from evenodds.ordertext import format_edit, format_order, parse_edit, parse_order
+from evenodds.products import laid, prism, product, pyramid, turned
 from evenodds.ranksets import complement, is_rank_set, rank_sets, ranks_of, subsets, word_of
+from evenodds.recur import ab_sum_by_tops, cd_by_tops, doubled_cd, minus_power, square_power, top_parts
 from evenodds.relations import is_alike, is_matching, order_from_relations, relations, renamed
 from evenodds.stretches import inner_things, stretch, stretch_order, stretches
 from evenodds.words import WordSum, format_sum, parse_sum, power, single, word_weight, zero_sum
@@ -48,6 +61,7 @@ def everything(order):
     told += [mu_by_struck(order, order.names[1:-1:2])]
     if order.height > 0:
         told += [alphas(order).pairs(), betas_of_alphas(alphas(order)).pairs(), ab_sum(order).terms]
+        told += [splits_by_tops(order), top_parts(order), turned(order).covers]
         told += [unmirrored_ranks(order)] + [selected(order, ranks).covers for ranks in rank_sets(order.weight)]
         told += [chains(order, ranks, with_ends=True) for ranks in rank_sets(order.weight)]
     for name in order:
@@ -155,6 +169,45 @@ class Arguments(unittest.TestCase):
         (spread, CD_SUM),
         (first_word, "cdc"),
         (word_of_first, "aaba"),
+        (reading, AB_SUM),
+        (is_reading, AB_SUM, CD_SUM, AB_SUM),
+        (is_readable, AB_SUM),
+        (read_cd, AB_SUM),
+        (read_cd, spread(CD_SUM)),
+        (cd_sum, diamond()),
+        (cd_sum, crooked()),
+        (unread_stretch, crooked()),
+        (minus_power, 3),
+        (square_power, 3),
+        (square_power, 5),
+        (top_parts, crooked()),
+        (ab_sum_by_tops, crooked()),
+        (doubled_cd, diamond()),
+        (doubled_cd, crooked()),
+        (cd_by_tops, diamond()),
+        (is_sparse, [2, 4]),
+        (is_sparse, [4, 2]),
+        (sparse_sets, 4),
+        (few_numbers, Counts(2, {(2,): 3, (): 1})),
+        (told_back, 2, [1, 3]),
+        (told_back, 2, [1, 3, 3]),
+        (balance_sides, Counts(2, {(2,): 3, (): 1}), [2], 0),
+        (balance_sides, Counts(2, {(2,): 3, (): 1}), [2, 1], 0),
+        (broken_balance, Counts(2, {(2,): 3, (): 1})),
+        (is_balanced, Counts(2, {(2,): 3, (): 1})),
+        (turned, crooked()),
+        (laid, crooked(), diamond()),
+        (laid, crooked(), one()),
+        (product, crooked(), two()),
+        (product, crooked(), crooked()),
+        (pyramid, crooked()),
+        (prism, crooked()),
+        (splits, AB_SUM),
+        (splits_by_tops, crooked()),
+        (lifted, AB_SUM, AB_SUM, AB_SUM),
+        (lifted, AB_SUM, AB_SUM, CD_SUM),
+        (pyramid_sum, AB_SUM),
+        (prism_sum, CD_SUM),
     )
 
     def test_no_argument_is_modified(self):
@@ -195,7 +248,7 @@ class Arguments(unittest.TestCase):
     def test_a_later_change_of_a_rank_set_or_a_chain_has_no_effect(self):
         for function, given, items in (
             (chains, [crooked()], [1, 2]), (chain_ranks, [crooked()], ["bot", "k"]), (subsets, [], [1, 3]),
-            (selected, [crooked()], [2]), (WordSum, ["ab", 2], [["ba", 1], ["ab", 2]]),
+            (told_back, [2], [1, 3]), (selected, [crooked()], [2]), (WordSum, ["ab", 2], [["ba", 1], ["ab", 2]]),
         ):
             found = function(*given, items)
             told = shown(copy.deepcopy(found))
@@ -232,7 +285,9 @@ class Pair(tuple):
 
 class Values(unittest.TestCase):
     def assert_own_kinds(self, value):
-        """The value is made of Python's own kinds and exact tuples only."""
+        """The value is made of Python's own kinds, exact tuples and word sums only."""
+        if isinstance(value, WordSum):
+            value = (value.letters, value.weight, value.terms)
         self.assertIn(value.__class__, (int, str, tuple, bool, None.__class__))
         if isinstance(value, tuple):
             for item in value:
@@ -287,12 +342,30 @@ class Values(unittest.TestCase):
                          0 * CD_SUM, -CD_SUM, CD_SUM.reversed_words(), (CD_SUM * 2).halved(), power(AB_SUM, 0),
                          zero_sum("cd", 1), single("ab", ""), read_sum("-ab + 3ba", 2), ab_sum(crooked()),
                          stretch_sum(crooked(), "b", "top"), sum_of_betas(alphas(two())), mirrored(AB_SUM),
-                         spread(CD_SUM)):
+                         spread(CD_SUM), *reading(AB_SUM), read_cd(spread(CD_SUM)), cd_sum(diamond()), minus_power(3),
+                         square_power(0), ab_sum_by_tops(crooked()), doubled_cd(two()), cd_by_tops(diamond()),
+                         *[part for _, part in top_parts(crooked())], lifted(AB_SUM, AB_SUM, AB_SUM),
+                         pyramid_sum(CD_SUM), prism_sum(AB_SUM)):
             self.assertIs(word_sum.__class__, WordSum)
             self.assert_own_kinds((word_sum.letters, word_sum.weight, word_sum.terms, tuple(word_sum)))
             self.assertEqual((word_sum.letters.__class__, word_sum.weight.__class__), (str, int))
             for word, number in word_sum.terms:
                 self.assertEqual((word.__class__, number.__class__), (str, int))
+
+    def test_kinds_of_pairs_and_rows(self):
+        for pair in [reading(AB_SUM), *top_parts(crooked())]:
+            self.assertIs(pair.__class__, tuple)
+            self.assertEqual(len(pair), 2)
+        self.assertEqual((top_parts(crooked()).__class__, top_parts(two())), (tuple, ()))
+        counts = alphas(crooked())
+        for value in (splits(AB_SUM), splits_by_tops(crooked()), sparse_sets(9), few_numbers(counts),
+                      balance_sides(counts, [1], 1), broken_balance(counts), unread_stretch(crooked())):
+            self.assert_own_kinds(value)
+            self.assertIs(value.__class__, tuple)
+        for order in (turned(crooked()), laid(two(), crooked()), product(one(), one()), pyramid(one()), prism(two())):
+            self.assertIs(order.__class__, Order)
+            for value in everything(order):
+                self.assert_own_kinds(value)
 
     def test_kinds_of_tuples_of_another_class(self):
         order = Order(Pair(["b", "a"]), Pair([Pair(["a", "b"])]))
@@ -314,7 +387,10 @@ class Values(unittest.TestCase):
                       Counts(0, {}) == Counts(0, {}), Counts(0, {}) == None, Counts(0, {}) == Counts(1, {}),
                       is_mu_table(one(), {}), is_mu_table(one(), {("x", "x"): 1}), is_mirrored(AB_SUM),
                       is_mirrored(single("ab", "")), AB_SUM == AB_SUM, AB_SUM == CD_SUM, AB_SUM == None,
-                      "ab" in AB_SUM, "q" in AB_SUM, bool(AB_SUM), bool(zero_sum("ab", 0))):
+                      is_reading(AB_SUM, CD_SUM, AB_SUM), is_reading(CD_SUM, CD_SUM, AB_SUM), is_readable(AB_SUM),
+                      is_readable(zero_sum("ab", 2)), is_sparse([1]), is_sparse([]), is_balanced(Counts(0, {})),
+                      is_balanced(Counts(1, {(): 1})), "ab" in AB_SUM, "q" in AB_SUM, bool(AB_SUM),
+                      bool(zero_sum("ab", 0))):
             self.assertIs(value.__class__, bool)
 
 

@@ -18,12 +18,21 @@ from evenodds.counts import (
 )
 from evenodds.orders import Order
 from evenodds.ranksets import rank_sets
-from samples import BIG, WRONG_RANKS, WRONG_WEIGHTS, Asks, crooked, diamond, full, line, one, triangle, two, wide
-
-
-def widest():
-    """An order with 40 things and height 9."""
-    return full(5, 5, 5, 5, 5, 5, 4, 4)
+from samples import (
+    BIG,
+    WRONG_RANKS,
+    WRONG_WEIGHTS,
+    Asks,
+    crooked,
+    diamond,
+    full,
+    line,
+    one,
+    triangle,
+    two,
+    wide,
+    widest,
+)
 
 
 def bounded(extra):

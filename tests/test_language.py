@@ -10,16 +10,21 @@ import unittest
 import evenodds
 from evenodds import (
     absum,
+    cdread,
     cdwords,
     counts,
     edits,
     errors,
     evencheck,
+    flagsback,
+    letterrules,
     mirror,
     moebius,
     orders,
     ordertext,
+    products,
     ranksets,
+    recur,
     relations,
     stretches,
     words,
@@ -29,7 +34,8 @@ FOLDER = os.path.dirname(evenodds.__file__)
 MODULES = {
     "errors": errors, "orders": orders, "relations": relations, "edits": edits, "ordertext": ordertext,
     "stretches": stretches, "evencheck": evencheck, "ranksets": ranksets, "counts": counts, "words": words,
-    "absum": absum, "moebius": moebius, "mirror": mirror, "cdwords": cdwords,
+    "absum": absum, "moebius": moebius, "mirror": mirror, "cdwords": cdwords, "cdread": cdread, "recur": recur,
+    "flagsback": flagsback, "products": products, "letterrules": letterrules,
 }
 
 LIBRARY = {
@@ -97,6 +103,27 @@ INTERFACE = {
     "cdwords": {
         "cd_words": "(weight)", "cd_count": "(weight)", "spread": "(word_sum)", "first_word": "(word)",
         "word_of_first": "(word)",
+    },
+    "cdread": {
+        "reading": "(word_sum)", "is_reading": "(word_sum, cd_part, rest)", "is_readable": "(word_sum)",
+        "read_cd": "(word_sum)", "cd_sum": "(order)", "unread_stretch": "(order)",
+    },
+    "recur": {
+        "minus_power": "(exponent)", "square_power": "(exponent)", "top_parts": "(order)",
+        "ab_sum_by_tops": "(order)", "doubled_cd": "(order)", "cd_by_tops": "(order)",
+    },
+    "flagsback": {
+        "is_sparse": "(ranks)", "sparse_sets": "(weight)", "few_numbers": "(counts)",
+        "told_back": "(weight, numbers)", "balance_sides": "(counts, ranks, low)", "broken_balance": "(counts)",
+        "is_balanced": "(counts)",
+    },
+    "products": {
+        "turned": "(order)", "laid": "(lower, upper)", "product": "(left, right)", "pyramid": "(order)",
+        "prism": "(order)",
+    },
+    "letterrules": {
+        "splits": "(word_sum)", "splits_by_tops": "(order)", "lifted": "(word_sum, first, second)",
+        "pyramid_sum": "(word_sum)", "prism_sum": "(word_sum)",
     },
 }
 

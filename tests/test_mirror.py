@@ -9,10 +9,24 @@ from evenodds.counts import beta
 from evenodds.evencheck import is_even, uneven_stretch
 from evenodds.mirror import is_mirrored, mirrored, unmirrored_ranks, unmirrored_stretch, unmirrored_word
 from evenodds.moebius import mu
-from evenodds.orders import Order
 from evenodds.ranksets import complement, rank_sets
 from evenodds.words import WordSum, single, zero_sum
-from samples import BIG, Asks, crooked, diamond, full, line, one, random_orders, some_sums, triangle, two, wide
+from samples import (
+    BIG,
+    Asks,
+    beside,
+    crooked,
+    diamond,
+    full,
+    line,
+    one,
+    random_orders,
+    some_sums,
+    triangle,
+    two,
+    wide,
+    widest,
+)
 
 CD_SUMS = (zero_sum("cd", 0), zero_sum("cd", 9), single("cd", ""), single("cd", "cd"), single("cd", "ccc"))
 
@@ -127,7 +141,7 @@ class Stretches(Asks, unittest.TestCase):
 
     def test_a_longer_stretch(self):
         # All stretches of length 2 are even, that of length 4 is not.
-        order = long_fault()
+        order = beside()
         self.assertEqual(uneven_stretch(order)[:2], ("n", "o"))
         self.assertEqual(mu(order, "n", "o"), 3)
         self.assertEqual(unmirrored_stretch(order), ("n", "o", "aaa", 1, "bbb", 3))
@@ -146,16 +160,8 @@ class Stretches(Asks, unittest.TestCase):
     def test_sixteen_and_seventeen_things(self):
         self.assertEqual(unmirrored_stretch(wide(16))[:2], ("n", "o"))
         self.assertIsNone(unmirrored_stretch(full(2, 2, 2, 2, 2, 2, 2)))
-        for order in (wide(17), wide(40), full(2, 2, 2, 2, 2, 2, 3), full(5, 5, 5, 5, 5, 5, 4, 4)):
+        for order in (wide(17), wide(40), full(2, 2, 2, 2, 2, 2, 3), widest()):
             self.assert_error(errors.TooMany, ("things", 16), unmirrored_stretch, order)
-
-
-def long_fault():
-    """An order of height 4 whose first uneven stretch is the whole: two even orders beside each other."""
-    order = full(2, 2, 2)
-    other = {name: name + "-x" for name in order.names[1:-1]}
-    more = [tuple(other.get(name, name) for name in pair) for pair in order.covers]
-    return Order(order.names + tuple(other.values()), order.covers + tuple(more))
 
 
 if __name__ == "__main__":

@@ -20,12 +20,7 @@ from evenodds.moebius import (
 from evenodds.orders import Order
 from evenodds.ranksets import rank_sets
 from evenodds.stretches import stretch, stretches
-from samples import WRONG_RANKS, Asks, crooked, diamond, full, line, one, random_orders, triangle, two, wide
-
-
-def widest():
-    """An order with 40 things and height 9."""
-    return full(5, 5, 5, 5, 5, 5, 4, 4)
+from samples import WRONG_RANKS, Asks, crooked, diamond, full, line, one, random_orders, triangle, two, wide, widest
 
 
 def sample_orders():

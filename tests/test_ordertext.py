@@ -13,7 +13,6 @@ from samples import (
     Asks,
     crooked,
     diamond,
-    full,
     line,
     line_lists,
     one,
@@ -21,6 +20,7 @@ from samples import (
     triangle,
     two,
     wide,
+    widest,
 )
 
 LONG = "abcdefghijklmnopqrstuvw-"
@@ -78,7 +78,7 @@ class OrderTexts(Asks, unittest.TestCase):
         self.assertEqual(parse_order(format_order(order)), order)
 
     def test_reading_undoes_writing(self):
-        orders = [one(), two(), diamond(), crooked(), triangle(), line(10), wide(40), full(5, 5, 5, 5, 5, 5, 4, 4)]
+        orders = [one(), two(), diamond(), crooked(), triangle(), line(10), wide(40), widest()]
         for order in orders + random_orders(random.Random(4), 50):
             text = format_order(order)
             self.assertIs(text.__class__, str)
