@@ -269,6 +269,19 @@ class Statements(unittest.TestCase):
             if isinstance(node, ast.Compare) and isinstance(node.ops[0], (ast.Is, ast.IsNot)):
                 self.assertEqual(ast.unparse(node.comparators[0]), "None", where)
 
+    def test_ranges_and_views_are_iterated_at_once(self):
+        lazy = ("range", "zip", "enumerate", "reversed", "items", "keys", "values", "combinations")
+        takers = ("list", "tuple", "dict", "sorted", "sum", "any", "all", "min", "max")
+        for name, text in sources().items():
+            for outer in ast.walk(ast.parse(text)):
+                for node in ast.iter_child_nodes(outer):
+                    if not isinstance(node, ast.Call) or ast.unparse(node.func).rpartition(".")[2] not in lazy:
+                        continue
+                    if isinstance(outer, ast.Call):
+                        self.assertIn(ast.unparse(outer.func), takers, f"{name}:{node.lineno}")
+                    else:
+                        self.assertIsInstance(outer, (ast.For, ast.comprehension), f"{name}:{node.lineno}")
+
     def test_module_level(self):
         for name, text in sources().items():
             for item in ast.parse(text).body:
