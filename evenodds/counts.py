@@ -2,7 +2,7 @@
 
 from evenodds.errors import MOST_CHAINS, NotBelow, TooLow, TooMany, UnlikeSums
 from evenodds.orders import check_known
-from evenodds.ranksets import check_ranks, check_weight, rank_sets, subsets
+from evenodds.ranksets import check_ranks, check_weight, rank_sets
 
 
 def is_middle_chain(order, things):
@@ -26,12 +26,17 @@ def is_chain(order, things, *, with_ends=False):
     return is_middle_chain(order, things)
 
 
-def chain_ranks(order, things):
-    """The ranks of a list of names, each of which is below the next."""
+def check_ascending(order, things):
+    """Raise UnknownName, or NotBelow for the first two neighbours of which the earlier one is not below the later."""
     check_known(order, things)
     for low, high in zip(things, things[1:]):
         if not order.is_below(low, high):
             raise NotBelow(low, high)
+
+
+def chain_ranks(order, things):
+    """The ranks of a list of names, each of which is below the next."""
+    check_ascending(order, things)
     return tuple([order.rank(name) for name in things])
 
 
@@ -114,19 +119,34 @@ class Counts:
         return tuple(self._numbers.items())
 
 
+def chain_totals(order, weight, total_at):
+    """The `Counts` of totals over all tuples of things with exactly the ranks of a rank set, each below the next.
+
+    The function `total_at` gives the total for a thing at the end from the totals of the things before it.
+    """
+    # For each rank set the totals by the last thing; the rank set without its last rank comes before it.
+    endings = {(): {order.least: 1}}
+    for ranks in rank_sets(weight)[1:]:
+        before = endings[ranks[:-1]]
+        endings[ranks] = {name: total_at(before, name) for name in order.at_rank(ranks[-1])}
+    return Counts(weight, {ranks: sum(ending.values()) for ranks, ending in endings.items()})
+
+
 def alphas(order):
     """The numbers of chains of the order for each rank set."""
     check_height(order)
-    return Counts(order.weight, {ranks: alpha(order, ranks) for ranks in rank_sets(order.weight)})
+    return chain_totals(order, order.weight, lambda before, name: total_below(order, before, name))
 
 
 def totals_within(counts, sign):
     """The `Counts` of the sums over all rank sets within each one, times `sign` for each rank they lack of it."""
     numbers = {ranks: number for ranks, number in counts.pairs()}
-    table = {}
-    for ranks in counts:
-        table[ranks] = sum([numbers[part] * sign ** ((len(ranks) - len(part)) % 2) for part in subsets(ranks)])
-    return Counts(counts.weight, table)
+    for rank in range(1, counts.weight + 1):
+        for ranks in counts:
+            # What lacks the rank is not changed in this round, so each rank set within is added once.
+            if rank in ranks:
+                numbers[ranks] += sign * numbers[tuple([other for other in ranks if other != rank])]
+    return Counts(counts.weight, numbers)
 
 
 def betas_of_alphas(counts):

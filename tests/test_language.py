@@ -10,12 +10,15 @@ import unittest
 import evenodds
 from evenodds import (
     absum,
+    bruhat,
     cdread,
     cdwords,
     counts,
+    crossing,
     edits,
     errors,
     evencheck,
+    faces,
     flagsback,
     letterrules,
     mirror,
@@ -26,7 +29,9 @@ from evenodds import (
     ranksets,
     recur,
     relations,
+    span,
     stretches,
+    toric,
     words,
 )
 
@@ -35,7 +40,8 @@ MODULES = {
     "errors": errors, "orders": orders, "relations": relations, "edits": edits, "ordertext": ordertext,
     "stretches": stretches, "evencheck": evencheck, "ranksets": ranksets, "counts": counts, "words": words,
     "absum": absum, "moebius": moebius, "mirror": mirror, "cdwords": cdwords, "cdread": cdread, "recur": recur,
-    "flagsback": flagsback, "products": products, "letterrules": letterrules,
+    "flagsback": flagsback, "products": products, "letterrules": letterrules, "span": span, "faces": faces,
+    "bruhat": bruhat, "crossing": crossing, "toric": toric,
 }
 
 LIBRARY = {
@@ -125,6 +131,29 @@ INTERFACE = {
         "splits": "(word_sum)", "splits_by_tops": "(order)", "lifted": "(word_sum, first, second)",
         "pyramid_sum": "(word_sum)", "prism_sum": "(word_sum)",
     },
+    "span": {
+        "pair_order": "()", "line_order": "()", "triangle_order": "()", "basis_order": "(word)",
+        "basis_sum": "(word)", "combination": "(word_sum)", "rebuilt": "(weight, pairs)",
+        "alpha_of_cd": "(word_sum, ranks)", "hidden_sum": "(weight, rank_sets)",
+        "is_hidden": "(word_sum, rank_sets)", "heaps": "(word_sum)", "heap_alpha": "(heap, ranks)",
+    },
+    "faces": {
+        "faces_of": "(corner_count, facets)", "corners_of": "(name)", "polygon": "(size)", "simplex": "(size)",
+        "cube": "(size)", "cross": "(size)",
+    },
+    "bruhat": {
+        "swaps": "(word)", "is_at_most": "(first, second)", "rearrangement_stretch": "(low, high)",
+        "rearrangements": "(size)",
+    },
+    "crossing": {
+        "is_closed": "(order, things)", "closure_below": "(order, things)", "crossing": "(order, closed)",
+        "crossing_ends": "(order, closed)", "border": "(order, closed)",
+    },
+    "toric": {
+        "times_rows": "(first, second)", "minus_row": "(exponent)", "cut_row": "(numbers)",
+        "unmirrored_item": "(numbers)", "long_row": "(order)", "short_row": "(order)", "long_parts": "(order)",
+        "short_turn": "(order)", "long_of_sum": "(word_sum)", "short_of_sum": "(word_sum)",
+    },
 }
 
 # The methods that the interface lists for each class, and the operators that the points name.
@@ -142,6 +171,7 @@ OPERATORS = {
     words.WordSum: ("__eq__", "__iter__", "__contains__", "__bool__", "__add__", "__sub__", "__neg__", "__mul__",
                     "__rmul__"),
 }
+PROPERTIES = {orders.Order: ("least", "greatest", "size")}
 
 # The methods of builtin values that may be called.
 BUILTIN_METHODS = set("""
@@ -252,7 +282,7 @@ class Names(unittest.TestCase):
 
 class Statements(unittest.TestCase):
     barred = (
-        ast.Global, ast.AsyncFunctionDef, ast.Await, ast.Div, ast.GeneratorExp, ast.Try, ast.Set, ast.Match,
+        ast.Global, ast.AsyncFunctionDef, ast.Await, ast.Div, ast.GeneratorExp, ast.Set, ast.Match,
         ast.With, ast.Yield, ast.YieldFrom, ast.AnnAssign, ast.NamedExpr,
     )
 
@@ -269,8 +299,21 @@ class Statements(unittest.TestCase):
             if isinstance(node, ast.Compare) and isinstance(node.ops[0], (ast.Is, ast.IsNot)):
                 self.assertEqual(ast.unparse(node.comparators[0]), "None", where)
 
+    def test_only_own_errors_are_caught(self):
+        own = {item.name for item in ast.parse(sources()["errors.py"]).body if isinstance(item, ast.ClassDef)}
+        for where, node in nodes():
+            if isinstance(node, ast.Try):
+                self.assertEqual(node.finalbody, [], where)
+            if isinstance(node, ast.ExceptHandler):
+                self.assertIn(ast.unparse(node.type), own, where)
+
+    def test_exponents_are_literals_or_counted(self):
+        for where, node in nodes():
+            if isinstance(node, ast.BinOp) and isinstance(node.op, ast.Pow):
+                self.assertIsInstance(node.right, ast.Constant, where)
+
     def test_ranges_and_views_are_iterated_at_once(self):
-        lazy = ("range", "zip", "enumerate", "reversed", "items", "keys", "values", "combinations")
+        lazy = ("range", "zip", "enumerate", "reversed", "items", "keys", "values", "combinations", "permutations")
         takers = ("list", "tuple", "dict", "sorted", "sum", "any", "all", "min", "max")
         for name, text in sources().items():
             for outer in ast.walk(ast.parse(text)):
@@ -278,7 +321,8 @@ class Statements(unittest.TestCase):
                     if not isinstance(node, ast.Call) or ast.unparse(node.func).rpartition(".")[2] not in lazy:
                         continue
                     if isinstance(outer, ast.Call):
-                        self.assertIn(ast.unparse(outer.func), takers, f"{name}:{node.lineno}")
+                        pair = (ast.unparse(outer.func), ast.unparse(node.func))
+                        self.assertTrue(pair[0] in takers or pair == ("enumerate", "zip"), f"{name}:{node.lineno}")
                     else:
                         self.assertIsInstance(outer, (ast.For, ast.comprehension), f"{name}:{node.lineno}")
 
@@ -300,6 +344,17 @@ class Interface(unittest.TestCase):
         for owner, listed in METHODS.items():
             for name, parameters in listed.items():
                 self.assertEqual(str(inspect.signature(vars(owner)[name])), parameters, name)
+
+    def test_properties(self):
+        for owner, listed in PROPERTIES.items():
+            for name in listed:
+                self.assertIsInstance(vars(owner)[name], property)
+                self.assertIsNone(vars(owner)[name].fset)
+
+    def test_all_modules_are_listed(self):
+        files = {name[:-3] for name in sources()} - {"__init__", "bounds"}
+        self.assertEqual(files, set(MODULES))
+        self.assertEqual(files, set(INTERFACE) | {"errors"})
 
     def test_operators(self):
         for owner, listed in OPERATORS.items():
