@@ -1,7 +1,7 @@
 """Whether each stretch of an order has as many things of even rank as of odd rank."""
 
 from evenodds.errors import Uneven
-from evenodds.stretches import stretch, stretches
+from evenodds.stretches import names_stretch, stretch, stretches
 
 
 def parity_counts(order, low, high):
@@ -47,9 +47,4 @@ def check_even(order):
 
 def is_uneven_paper(order, paper):
     """True if the value is the paper of an uneven stretch of the order; it may be any value."""
-    if not isinstance(paper, tuple) or len(paper) != 4:
-        return False
-    low, high = paper[:2]
-    if not all([isinstance(name, str) and name in order for name in (low, high)]):
-        return False
-    return order.is_below(low, high) and paper == uneven_paper(order, low, high)
+    return names_stretch(order, paper, 4) and paper == uneven_paper(order, paper[0], paper[1])

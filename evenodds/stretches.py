@@ -16,6 +16,19 @@ def check_at_most(order, low, high):
         raise NotBelow(low, high)
 
 
+def names_stretch(order, paper, count):
+    """True if the value, which may be any, is a tuple of so many items that begins with the ends of a stretch.
+
+    The first end is below the second one.
+    """
+    if not isinstance(paper, tuple) or len(paper) != count:
+        return False
+    low, high = paper[:2]
+    if not all([isinstance(name, str) and name in order for name in (low, high)]):
+        return False
+    return order.is_below(low, high)
+
+
 def stretch(order, low, high):
     """The names of all things from `low` to `high`, both included, by place."""
     check_at_most(order, low, high)

@@ -1,4 +1,4 @@
-"""The common rules, points [1] to [5], for all modules that stand so far."""
+"""The common rules, points [1] to [5], for all modules."""
 
 import copy
 import unittest
@@ -18,6 +18,7 @@ from evenodds.counts import (
     chains,
     is_chain,
 )
+from evenodds.crossing import crossing, crossing_ends
 from evenodds.edits import apply_edit, apply_edits, inverse_edit
 from evenodds.evencheck import is_even, is_uneven_paper, parity_counts, uneven_stretch, uneven_stretches
 from evenodds.flagsback import (
@@ -42,13 +43,18 @@ from evenodds.moebius import (
     unlike_mu,
 )
 from evenodds.orders import Order
+from evenodds.papers import verdict
 from evenodds.ordertext import format_edit, format_order, parse_edit, parse_order
 from evenodds.products import laid, prism, product, pyramid, turned
 from evenodds.ranksets import complement, is_rank_set, rank_sets, ranks_of, subsets, word_of
 from evenodds.recur import ab_sum_by_tops, cd_by_tops, doubled_cd, minus_power, square_power, top_parts
 from evenodds.relations import is_alike, is_matching, order_from_relations, relations, renamed
+from evenodds.script import run
+from evenodds.signrows import lot_sum, row_counts
 from evenodds.stretches import inner_things, stretch, stretch_order, stretches
+from evenodds.toric import long_parts, short_row, short_turn
 from evenodds.words import WordSum, format_sum, parse_sum, power, single, word_weight, zero_sum
+from calls import AB_SUM, CALLS, CD_SUM
 from samples import Asks, answer, crooked, diamond, full, line, one, shown, two, wide
 
 
@@ -58,10 +64,12 @@ def everything(order):
     told += [order.at_rank(rank) for rank in range(-2, 12)] + [tuple(order), relations(order)]
     told += [format_order(order), stretches(order), stretches(order, least_length=0), uneven_stretch(order)]
     told += [uneven_stretches(order), is_even(order), tuple(mu_table(order).items()), unlike_mu(order)]
-    told += [mu_by_struck(order, order.names[1:-1:2])]
+    told += [mu_by_struck(order, order.names[1:-1:2]), short_row(order), short_turn(order), verdict(order)]
+    told += [row_counts(order).pairs(), lot_sum(order).terms, script_answers(order)]
     if order.height > 0:
         told += [alphas(order).pairs(), betas_of_alphas(alphas(order)).pairs(), ab_sum(order).terms]
         told += [splits_by_tops(order), top_parts(order), turned(order).covers]
+        told += [long_parts(order), crossing(order, order.names[:1]).covers, crossing_ends(order, order.names[:-1])]
         told += [unmirrored_ranks(order)] + [selected(order, ranks).covers for ranks in rank_sets(order.weight)]
         told += [chains(order, ranks, with_ends=True) for ranks in rank_sets(order.weight)]
     for name in order:
@@ -70,8 +78,19 @@ def everything(order):
     return told
 
 
-AB_SUM = WordSum("ab", 2, [("ba", 3), ("ab", -1)])
-CD_SUM = WordSum("cd", 3, [("dc", 2), ("ccc", 1), ("cd", -1)])
+def script_answers(order):
+    """What a script tells of an order and of others made from it."""
+    lines = [f"ask {word}" for word in ("size", "height", "even", "verdict", "letters", "sum", "few", "order")]
+    return run("\n".join(lines + ["make turned"] + lines + ["make prism", "ask order"]), start=order)
+
+
+def emptied(value):
+    """Take everything out of the lists and dicts in a value, at any depth."""
+    if isinstance(value, (list, tuple)):
+        for item in value:
+            emptied(item)
+    if isinstance(value, (list, dict)):
+        value.clear()
 
 
 def read_sum(text, weight):
@@ -208,7 +227,7 @@ class Arguments(unittest.TestCase):
         (lifted, AB_SUM, AB_SUM, CD_SUM),
         (pyramid_sum, AB_SUM),
         (prism_sum, CD_SUM),
-    )
+    ) + CALLS
 
     def test_no_argument_is_modified(self):
         for function, *given in self.calls:
@@ -237,6 +256,27 @@ class Arguments(unittest.TestCase):
                         inner.clear()
                 item.clear()
         self.assertEqual(everything(order), told)
+
+    def test_a_later_change_of_any_argument_has_no_effect(self):
+        for function, *given in self.calls:
+            given = copy.deepcopy(given)
+            try:
+                found = function(*given)
+            except errors.EvenOddsError as error:
+                told = copy.deepcopy(vars(error))
+                emptied(given)
+                self.assertEqual(vars(error), told)
+                continue
+            told = copy.deepcopy(shown(found))
+            emptied(given)
+            self.assertEqual(shown(found), told)
+
+    def test_a_returned_dict_is_new(self):
+        for function, *given in self.calls:
+            first = answer(function, *given)
+            if first[0] == "table":
+                function(*given).clear()
+                self.assertEqual(answer(function, *given), first)
 
     def test_a_later_change_of_a_list_has_no_effect(self):
         self.assert_not_kept(Order, ["z", "y", "x", "w"], [["w", "x"], ["w", "y"], ["x", "z"], ["y", "z"]])

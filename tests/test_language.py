@@ -16,19 +16,24 @@ from evenodds import (
     counts,
     crossing,
     edits,
+    engine,
     errors,
     evencheck,
     faces,
     flagsback,
+    labels,
     letterrules,
     mirror,
     moebius,
     orders,
     ordertext,
+    papers,
     products,
     ranksets,
     recur,
     relations,
+    script,
+    signrows,
     span,
     stretches,
     toric,
@@ -41,7 +46,8 @@ MODULES = {
     "stretches": stretches, "evencheck": evencheck, "ranksets": ranksets, "counts": counts, "words": words,
     "absum": absum, "moebius": moebius, "mirror": mirror, "cdwords": cdwords, "cdread": cdread, "recur": recur,
     "flagsback": flagsback, "products": products, "letterrules": letterrules, "span": span, "faces": faces,
-    "bruhat": bruhat, "crossing": crossing, "toric": toric,
+    "bruhat": bruhat, "crossing": crossing, "toric": toric, "labels": labels, "signrows": signrows, "papers": papers,
+    "engine": engine, "script": script,
 }
 
 LIBRARY = {
@@ -154,6 +160,28 @@ INTERFACE = {
         "unmirrored_item": "(numbers)", "long_row": "(order)", "short_row": "(order)", "long_parts": "(order)",
         "short_turn": "(order)", "long_of_sum": "(word_sum)", "short_of_sum": "(word_sum)",
     },
+    "labels": {
+        "full_chains": "(order, low, high)", "label_row": "(order, labels, things)", "falls": "(row)",
+        "rising_chains": "(order, labels, low, high)", "falling_chains": "(order, labels, low, high)",
+        "unsingle_stretch": "(order, labels)", "is_single": "(order, labels)",
+        "is_unsingle_paper": "(order, labels, paper)", "fall_counts": "(order, labels)",
+        "risen_chain": "(order, labels, things)", "find_labels": "(order, *, most)",
+        "product_labels": "(left, left_labels, right, right_labels)", "turned_labels": "(order, labels)",
+        "corner_labels": "(size)",
+    },
+    "signrows": {
+        "zero_lot": "(row)", "differing": "(first, second)", "turned_row": "(row)", "put_on": "(first, second)",
+        "unclosed": "(rows)", "is_arrangement": "(rows)", "face_order": "(rows)", "zero_order": "(rows)",
+        "zero_lots": "(rows)", "row_count": "(order, low, high)", "row_counts": "(order)", "lot_sum": "(order)",
+        "undoubled_term": "(word_sum)", "is_lot_matching": "(rows, other, places)", "line_rows": "(count)",
+        "joined_rows": "(first, second)",
+    },
+    "papers": {
+        "verdict": "(order)", "is_verdict": "(order, paper)", "full_paper": "(order)",
+        "is_full_paper": "(order, paper)",
+    },
+    "engine": {"Engine": "(order)"},
+    "script": {"run": "(text, *, start=None)"},
 }
 
 # The methods that the interface lists for each class, and the operators that the points name.
@@ -164,14 +192,20 @@ METHODS = {
     },
     counts.Counts: {"pairs": "(self)"},
     words.WordSum: {"coefficient": "(self, word)", "reversed_words": "(self)", "halved": "(self)"},
+    engine.Engine: {
+        "do": "(self, edit)", "do_all": "(self, edits)", "make": "(self, word)", "cross": "(self, closed)",
+        "replace_by": "(self, other)", "undo": "(self)", "redo": "(self)", "ask": "(self, question)",
+        "is_even": "(self)",
+    },
 }
 OPERATORS = {
     orders.Order: ("__eq__", "__contains__", "__iter__"),
     counts.Counts: ("__eq__", "__getitem__", "__iter__", "__add__", "__sub__"),
     words.WordSum: ("__eq__", "__iter__", "__contains__", "__bool__", "__add__", "__sub__", "__neg__", "__mul__",
                     "__rmul__"),
+    engine.Engine: ("__iter__",),
 }
-PROPERTIES = {orders.Order: ("least", "greatest", "size")}
+PROPERTIES = {orders.Order: ("least", "greatest", "size"), engine.Engine: ("order", "steps", "undone")}
 
 # The methods of builtin values that may be called.
 BUILTIN_METHODS = set("""
